@@ -1,0 +1,151 @@
+"""Rules for the files of the package that a script can count or look up."""
+
+import ast
+import builtins
+import pathlib
+import tempfile
+import unittest
+
+from helpers import PACKAGE
+
+FILES = sorted(PACKAGE.rglob("*.py"))
+BUILTINS = set("""len range enumerate zip min max sum abs sorted reversed int str bool bytes list tuple dict set
+    frozenset isinstance ord repr any all divmod pow getattr hasattr setattr iter next map type super print property
+    staticmethod classmethod Exception ValueError TypeError KeyError IndexError LookupError ZeroDivisionError
+    ArithmeticError OverflowError RuntimeError NotImplementedError AttributeError StopIteration
+    NotImplemented object float""".split())
+BARRED = set("""register mro elements open input law version_info with_traceback add_note attrgetter breakpoint
+    compile copyright credits delattr dir eval exec exit gc globals help id importlib license locals methodcaller
+    os quit vars sys typing typing_extensions enum Enum IntEnum StrEnum Flag IntFlag Generic Protocol ABC ABCMeta
+    namedtuple NamedTuple TypedDict TYPE_CHECKING abstractmethod dataclass overload contextmanager""".split())
+LIBRARY = {"__future__", "heapq", "math", "itertools", "collections"}
+
+
+def faults_of_size(path):
+    """L10: the functions, files and lines that are too long, and tabs."""
+    text = path.read_text(encoding="utf-8")
+    lines = text.split("\n")
+    faults = []
+    if len(text.splitlines()) > 399:
+        faults.append((path.name, "file"))
+    faults += [(path.name, at) for at, line in enumerate(lines, 1) if len(line) > 120 or "\t" in line]
+    for node in ast.walk(ast.parse(text)):
+        if isinstance(node, (ast.FunctionDef, ast.Lambda)) and node.end_lineno - node.lineno + 1 > 40:
+            faults.append((path.name, node.lineno))
+    return faults
+
+
+def faults_of_characters(path):
+    """L14: the characters that are none from the space to ~, nor line feeds."""
+    return [(path.name, byte) for byte in path.read_bytes() if byte != 10 and not 32 <= byte <= 126]
+
+
+def bound_names(tree):
+    for node in ast.walk(tree):
+        if isinstance(node, ast.Name) and isinstance(node.ctx, ast.Store):
+            yield node.id
+        elif isinstance(node, ast.arg):
+            yield node.arg
+        elif isinstance(node, ast.ClassDef):
+            yield node.name
+        elif isinstance(node, ast.alias):
+            yield node.asname or node.name
+    methods = {id(part) for node in ast.walk(tree) if isinstance(node, ast.ClassDef) for part in node.body}
+    for node in ast.walk(tree):
+        if isinstance(node, ast.FunctionDef) and id(node) not in methods:
+            yield node.name
+
+
+def docstrings(tree):
+    return {id(node.body[0].value) for node in ast.walk(tree)
+            if isinstance(node, (ast.Module, ast.FunctionDef, ast.ClassDef)) and ast.get_docstring(node) is not None}
+
+
+def words_of(tree):
+    """Names, attributes, and the words of strings that are no docstrings."""
+    passed_over = docstrings(tree)
+    for node in ast.walk(tree):
+        if isinstance(node, ast.Name):
+            yield node.id
+        elif isinstance(node, ast.Attribute):
+            yield node.attr
+        elif isinstance(node, (ast.FunctionDef, ast.ClassDef)):
+            yield node.name
+        elif isinstance(node, ast.arg):
+            yield node.arg
+        elif isinstance(node, ast.Constant) and isinstance(node.value, str) and id(node) not in passed_over:
+            yield from node.value.split()
+
+
+class Counted(unittest.TestCase):
+    def test_there_are_files(self):
+        self.assertIn(PACKAGE / "__init__.py", FILES)
+
+    def test_sizes(self):
+        for path in FILES:
+            self.assertEqual(faults_of_size(path), [])
+
+    def test_characters(self):
+        for path in FILES:
+            self.assertEqual(faults_of_characters(path), [])
+
+    def test_the_counting_itself(self):
+        with tempfile.TemporaryDirectory() as folder:
+            path = pathlib.Path(folder) / "probe.py"
+            for text, faults in (("def f():\n" + "    f()\n" * 39, 0), ("def f():\n" + "    f()\n" * 40, 1),
+                                 ("x = 1\n" * 399, 0), ("x = 1\n" * 400, 1), ("#" * 120, 0), ("#" * 121, 1),
+                                 ("#\t", 1)):
+                path.write_text(text, encoding="utf-8")
+                self.assertEqual(len(faults_of_size(path)), faults, text[:20])
+            for text, faults in (("# ~ !\n", 0), ("#\t", 1), ("#\r\n", 1), ("# \x7f", 1), ("# \u00e9", 2)):
+                path.write_bytes(text.encode("utf-8"))
+                self.assertEqual(len(faults_of_characters(path)), faults, repr(text))
+
+    def test_the_folder_holds_nothing_else(self):
+        for path in PACKAGE.rglob("*"):
+            if "__pycache__" not in path.parts:
+                self.assertTrue(path.suffix == ".py" and path.name == path.name.lower(), path)
+
+
+class LookedUp(unittest.TestCase):
+    def trees(self):
+        return [(path.name, ast.parse(path.read_text(encoding="utf-8"))) for path in FILES]
+
+    def test_imports(self):
+        for name, tree in self.trees():
+            for node in ast.walk(tree):
+                if isinstance(node, (ast.Import, ast.ImportFrom)):
+                    self.assertIsInstance(node, ast.ImportFrom, name)
+                    self.assertIn(node, tree.body, name)
+                    self.assertEqual(node.level, 0, name)
+                    self.assertTrue(node.module.startswith("onescore.") or node.module in LIBRARY, name)
+                    self.assertFalse([alias for alias in node.names if alias.asname or alias.name == "*"], name)
+
+    def test_builtins(self):
+        everything = set(dir(builtins))
+        for name, tree in self.trees():
+            own = set(bound_names(tree))
+            self.assertEqual(own & everything, set(), name)
+            used = {node.id for node in ast.walk(tree) if isinstance(node, ast.Name)}
+            self.assertEqual((used & everything) - own - BUILTINS, set(), name)
+
+    def test_barred_words(self):
+        for name, tree in self.trees():
+            self.assertEqual(set(words_of(tree)) & BARRED, set(), name)
+
+    def test_no_percent_sign_in_strings_and_no_floats(self):
+        for name, tree in self.trees():
+            for node in ast.walk(tree):
+                if isinstance(node, ast.Constant):
+                    self.assertNotIsInstance(node.value, (float, complex), name)
+                    self.assertFalse(isinstance(node.value, str) and "%" in node.value, name)
+                self.assertFalse(isinstance(node, ast.BinOp) and isinstance(node.op, ast.Div), name)
+
+    def test_no_names_with_two_underscores_in_front(self):
+        allowed = {"__init__", "__eq__", "__repr__", "__str__", "__len__"}
+        for name, tree in self.trees():
+            self.assertEqual({word for word in words_of(tree) if word.startswith("__")} - allowed, set(), name)
+
+
+if __name__ == "__main__":
+    unittest.main()
