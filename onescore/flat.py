@@ -2,7 +2,7 @@
 
 from onescore.checks import check_tree, part_sizes
 from onescore.reader import read_tree
-from onescore.trees import inner_blocks, key_of
+from onescore.trees import inner_blocks, key_of, numbered
 
 WHOLE = -1
 VALUE_PLACES = {"message": 4, "set": 3, "if": 2, "while": 2}
@@ -92,19 +92,8 @@ def next_positions(rows):
 
 def value_of(statement):
     """Returns the value of a played out statement, or None if it has none."""
-    place = VALUE_PLACES.get(statement[0], -1)
-    return None if place == -1 else statement[place]
-
-
-def numbered_values(statements):
-    """Returns a number for the value of each statement, the same one for equal values only."""
-    numbers = {}
-    found = []
-    for statement in statements:
-        key = key_of(value_of(statement))
-        numbers.setdefault(key, len(numbers))
-        found.append(numbers[key])
-    return tuple(found)
+    kind = statement[0]
+    return statement[VALUE_PLACES[kind]] if kind in VALUE_PLACES else None
 
 
 class Score:
@@ -117,7 +106,7 @@ class Score:
         self.statements = tuple(row[0] for row in rows)
         self.next = next_positions(rows)
         # Deep values are compared once, here, and by their numbers from then on.
-        self.value_numbers = numbered_values(self.statements)
+        self.value_numbers = tuple(numbered([key_of(value_of(statement)) for statement in self.statements]))
 
 
 def read_score(text):

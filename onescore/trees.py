@@ -20,6 +20,14 @@ def key_of(tree):
     return tuple(parts)
 
 
+def numbered(keys):
+    """Returns a number for each of a list of keys, from 0 on, the same one for equal keys only."""
+    numbers = {}
+    for key in keys:
+        numbers.setdefault(key, len(numbers))
+    return [numbers[key] for key in keys]
+
+
 def inner_blocks(statement):
     """Returns the blocks inside of a statement, in the order of the text."""
     if statement[0] == "if":

@@ -95,3 +95,138 @@ def random_score(seed, most_ends=3, many=8):
     rng = random.Random(seed)
     ends = tuple("abcdef"[:rng.randint(1 if most_ends == 1 else 2, most_ends)])
     return Score((ends, (), random_block(rng, ends, many)))
+
+
+def told(block, ends, counter=None):
+    """A block in which each if and while tells all other ends, so that the score is clear (point 32)."""
+    counter = [] if counter is None else counter
+    found = ()
+    for statement in block:
+        if statement[0] not in ("if", "while"):
+            found += (statement,)
+            continue
+        number = len(counter)
+        counter.append(statement)
+        tells = {answer: tuple(("message", statement[1], end, f"{answer}{number}", ZERO, "told")
+                               for end in ends if end != statement[1]) for answer in ("yes", "no")}
+        inner = [told(part, ends, counter) for part in statement[3:]]
+        if statement[0] == "if":
+            found += (statement[:3] + (tells["yes"] + inner[0], tells["no"] + inner[1]),)
+        else:
+            found += (statement[:3] + (tells["yes"] + inner[0],),) + tells["no"]
+    return found
+
+
+def without_some(rng, block, share):
+    """A block without some of its messages into the variable told."""
+    found = ()
+    for statement in block:
+        if statement[0] == "message" and statement[5] == "told" and rng.random() < share:
+            continue
+        found += (statement[:3] + tuple(without_some(rng, part, share) for part in statement[3:])
+                  if statement[0] in ("if", "while") else statement,)
+    return found
+
+
+def random_told_score(seed, most_ends=3, many=6, share=0.0):
+    """A played out score with tells, of which a share is left out; without share, it is clear."""
+    rng = random.Random(seed)
+    ends = tuple("abcdef"[:rng.randint(2, most_ends)])
+    return Score((ends, (), without_some(rng, told(random_block(rng, ends, many), ends), share)))
+
+
+def acts(statement, end):
+    """What an end sees of a statement without its answer, or None if it does not concern it."""
+    kind = statement[0]
+    if kind == "message":
+        _, sender, receiver, label, value, variable = statement
+        return {sender: ("send", receiver, label, value), receiver: ("get", sender, label, variable)}.get(end)
+    return (kind,) + statement[2:] if statement[1] == end else None
+
+
+def looks_from(score, end, position):
+    """The pairs of a look, or None, and the next position for each step from a position."""
+    if position == len(score.statements):
+        return []
+    statement = score.statements[position]
+    act = acts(statement, end)
+    goals = score.next[position]
+    if act is None:
+        return [(None, goal) for goal in goals]
+    if statement[0] in ("if", "while"):
+        head = ("while", position) + act[1:] if statement[0] == "while" else act
+        return [(head + (answer,), goal) for answer, goal in zip(("yes", "no"), goals)]
+    return [(act, goals[0])]
+
+
+def plain_rest(score, end, positions):
+    """The rest of positions as a frozenset, worked out by steps until nothing new comes."""
+    reached = set(positions)
+    while True:
+        more = {goal for position in reached for look, goal in looks_from(score, end, position) if look is None}
+        if more <= reached:
+            return frozenset(reached)
+        reached |= more
+
+
+def plain_behind(score, end, positions):
+    """A dict from each look of a set to the set behind it."""
+    goals = {}
+    for position in positions:
+        for look, goal in looks_from(score, end, position):
+            if look is not None:
+                goals.setdefault(look, set()).add(goal)
+    return {look: plain_rest(score, end, places) for look, places in goals.items()}
+
+
+def plain_sets(score, end):
+    """All sets that can be reached by looks, with the dict from looks to the sets behind for each."""
+    waiting = [plain_rest(score, end, {0})]
+    found = {}
+    while waiting:
+        positions = waiting.pop()
+        if positions not in found:
+            found[positions] = plain_behind(score, end, positions)
+            waiting.extend(found[positions].values())
+    return found
+
+
+def must_act(score, end, position):
+    return position == len(score.statements) or acts(score.statements[position], end) is not None
+
+
+def plain_agree(score, end, first, second):
+    """Whether two positions at which the end must act agree, by the words of point 11."""
+    last = len(score.statements)
+    if last in (first, second):
+        return first == second
+    one, other = score.statements[first], score.statements[second]
+    if one[0] != other[0]:
+        return False
+    if one[0] == "message" and end == one[1] == other[1]:
+        return (one[2], one[3], one[4]) == (other[2], other[3], other[4])
+    if one[0] == "message" and end == one[2] == other[2]:
+        return one[1] == other[1] and (one[3] != other[3] or one[5] == other[5])
+    if one[0] == "message":
+        return False
+    return first == second if one[0] == "while" else one[2:] == other[2:]
+
+
+def plain_clear(score, end):
+    """Whether a score is clear for an end, by all sets that can be reached."""
+    for positions in plain_sets(score, end):
+        acting = [position for position in positions if must_act(score, end, position)]
+        if not all(plain_agree(score, end, one, other) for one in acting for other in acting):
+            return False
+    return True
+
+
+def all_ways(score, longest):
+    """All ways with at most so many steps, with their places."""
+    found = [([], 0)]
+    for way, place in found:
+        if len(way) < longest and place < len(score.statements):
+            goals = score.next[place]
+            answers = ("yes", "no") if score.statements[place][0] in ("if", "while") else ("",)
+            found.extend([(way + [(place, answer)], goal) for answer, goal in zip(answers, goals)])
+    return found

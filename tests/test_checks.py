@@ -113,7 +113,8 @@ class Statements(unittest.TestCase):
     def test_the_first_wrong_statement_counts(self):
         for first, second in itertools.permutations(self.WRONG, 2):
             one, two = self.WRONG[first], self.WRONG[second]
-            for block in ((one, two), (("if", "a", ONE, (one,), (two,)),), (("while", "a", ONE, (one,)), two),
+            for block in ((one, two), (("while", "a", ONE, (one, two)),), (("if", "a", ONE, (), (one, two)),),
+                          (("if", "a", ONE, (one,), (two,)),), (("while", "a", ONE, (one,)), two),
                           (("if", "a", ONE, (), (ASK, one)), two), (one, ("if", "a", ONE, (two,), ()))):
                 self.assertEqual(broken_rule((("a", "b"), (), block)), first, block)
 
