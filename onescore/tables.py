@@ -52,11 +52,12 @@ def least_table(table):
     order = [0]
     done = 0
     while done < len(order):
-        for goal in goals_of(table[order[done]]):
+        state = table[order[done]]
+        done += 1
+        for goal in goals_of(state):
             if classes[goal] not in numbers:
                 numbers[classes[goal]] = len(order)
                 order.append(goal)
-        done += 1
     return tuple([with_goals(table[at], [numbers[classes[goal]] for goal in goals_of(table[at])]) for at in order])
 
 
