@@ -16,6 +16,8 @@ from onescore.reader import read_tree
 PACKAGE = ROOT / "onescore"
 ZERO = ("number", 0)
 ONE = ("number", 1)
+END = ("end",)
+MOST = 4294967295
 
 
 def place_of_failure(text):
@@ -230,3 +232,200 @@ def all_ways(score, longest):
             answers = ("yes", "no") if score.statements[place][0] in ("if", "while") else ("",)
             found.extend([(way + [(place, answer)], goal) for answer, goal in zip(answers, goals)])
     return found
+
+
+def goals(state):
+    """The numbers in a state, in the order in which they stand in it."""
+    return {"get": [choice[2] for choice in state[2]] if state[0] == "get" else (), "end": (),
+            "if": state[-2:], "while": state[-2:]}.get(state[0], state[-1:])
+
+
+def without_goals(state):
+    if state[0] == "get":
+        return state[:2] + (tuple(choice[:2] for choice in state[2]),)
+    return state[:len(state) - len(goals(state))]
+
+
+def with_numbers(state, numbers):
+    if state[0] == "get":
+        return state[:2] + (tuple(choice[:2] + (goal,) for choice, goal in zip(state[2], numbers)),)
+    return state[:len(state) - len(numbers)] + tuple(numbers)
+
+
+def shuffled(rng, table, copies):
+    """A table with the same runs, with superfluous and alike states, and state 0 at its place."""
+    many = len(table) * copies
+    order = list(range(1, many))
+    rng.shuffle(order)
+    order = [0] + order
+    places = [order.index(at) for at in range(many)]
+    rows = [None] * many
+    for at in range(many):
+        numbers = [places[goal + len(table) * rng.randrange(copies)] for goal in goals(table[at % len(table)])]
+        rows[places[at]] = with_numbers(table[at % len(table)], numbers)
+    return tuple(rows)
+
+
+def plain_number(tree, variables):
+    """The number of a tree, by recursion."""
+    if tree[0] == "number":
+        return tree[1]
+    if tree[0] == "name":
+        return variables.get(tree[1], 0)
+    left, right = plain_number(tree[1], variables), plain_number(tree[2], variables)
+    return {"<": int(left < right), "==": int(left == right), "+": left + right, "-": left - right,
+            "*": left * right}[tree[0]] & MOST
+
+
+class SlowRun:
+    """The plain run of a tree without parts and calls, along its blocks."""
+
+    def __init__(self, tree, inputs):
+        self.deeds = []
+        self.variables = {end: {} for end in tree[0]}
+        self.inputs = {end: list(inputs[end]) for end in tree[0]}
+        self.play(tree[2], 0)
+        self.rows = {end: tuple(deed for deed in self.deeds if deed[1] == end) for end in tree[0]}
+
+    def play(self, block, position):
+        for statement in block:
+            self.do(statement, position)
+            position += size_of((statement,))
+
+    def do(self, statement, position):
+        kind, end = statement[:2]
+        number = lambda tree: plain_number(tree, self.variables[end])
+        if kind == "message":
+            _, _, other, label, value, variable = statement
+            self.deeds += [("send", end, other, label, number(value)), ("get", other, end, label, number(value))]
+            self.variables[other][variable] = number(value)
+        elif kind in ("set", "ask"):
+            given = self.inputs[end]
+            found = number(statement[3]) if kind == "set" else given.pop(0) if given else 0
+            self.variables[end][statement[2]] = found
+            self.deeds.append((kind, end, statement[2], found))
+        elif kind == "if":
+            answer = number(statement[2]) != 0
+            self.deeds.append((kind, end, "yes" if answer else "no"))
+            self.play(statement[3 if answer else 4], position + 1 + (0 if answer else size_of(statement[3])))
+        else:
+            for _ in range(8):
+                if number(statement[2]) == 0:
+                    break
+                self.deeds.append((kind, end, position, "yes"))
+                self.play(statement[3], position + 1)
+            self.deeds.append((kind, end, position, "no"))
+
+
+class SlowRunner:
+    """A runner that knows which letters it took, and works out everything else from the beginning each time."""
+
+    def __init__(self, ends, name, table, inputs):
+        self.name, self.table, self.inputs = name, table, list(inputs)
+        self.others = [end for end in ends if end != name]
+        self.took, self.steps, self.lasting, self.tray = [], 0, 0, {}
+        self.gone = {other: set() for other in self.others}
+        self.greatest = {other: 0 for other in self.others}
+        self.start = (0, 0, self.gone, self.greatest)
+
+    def story(self, most=None):
+        """The deeds, variables, letters with the numbers of letters taken before, and the state reached."""
+        deeds, variables, letters, rounds, at = [], {}, [], {}, 0
+        given, took = list(self.inputs), list(self.took)
+        while most is None or len(deeds) < most:
+            state = self.table[at]
+            kind = state[0]
+            if kind == "end" or (kind == "get" and not took):
+                break
+            if kind == "get":
+                _, _, label, value = took.pop(0)
+                variable, at = [choice[1:] for choice in state[2] if choice[0] == label][0]
+                variables[variable] = value
+                deeds.append(("get", self.name, state[1], label, value))
+            elif kind == "send":
+                _, other, label, value, at = state
+                number = sum(1 for letter, _ in letters if letter[2] == other)
+                letter = ("letter", self.name, other, number, label, plain_number(value, variables))
+                letters.append((letter, len(self.took) - len(took)))
+                deeds.append(("send", self.name, other) + letter[4:])
+            elif kind in ("set", "ask"):
+                found = plain_number(state[2], variables) if kind == "set" else given.pop(0) if given else 0
+                variables[state[1]] = found
+                deeds.append((kind, self.name, state[1], found))
+                at = state[-1]
+            else:
+                yes = plain_number(state[-3], variables) != 0
+                if kind == "while":
+                    yes = yes and rounds.get(state[1], 0) < 8
+                    rounds[state[1]] = rounds.get(state[1], 0) + 1 if yes else 0
+                deeds.append((kind, self.name) + state[1:-3] + ("yes" if yes else "no",))
+                at = state[-2] if yes else state[-1]
+        return deeds, variables, letters, self.table[at]
+
+    def taken(self, other, most=None):
+        return sum(1 for entry in self.took[:most] if entry[1] == other)
+
+    def step(self):
+        state = self.story(self.steps)[3]
+        if state == END:
+            return None
+        if state[0] == "get":
+            place = (state[1], self.taken(state[1]))
+            if place not in self.tray:
+                return None
+            self.took.append(("took", state[1]) + self.tray.pop(place))
+        self.steps += 1
+        return self.deeds()[-1]
+
+    def deliver(self, item):
+        if item[2] != self.name:
+            return
+        other = item[1]
+        if item[0] == "letter":
+            if item[3] >= self.taken(other):
+                self.tray[(other, item[3])] = item[4:]
+        elif item[3] > self.greatest[other]:
+            made = {letter[3] for letter, _ in self.story(self.steps)[2] if letter[2] == other}
+            self.greatest = {**self.greatest, other: item[3]}
+            self.gone = {**self.gone, other: self.gone[other] | {number for number in made if number < item[3]}}
+
+    def letters(self, other):
+        return [(letter, before) for letter, before in self.story(self.steps)[2]
+                if letter[2] == other and letter[3] not in self.gone[other]]
+
+    def outgoing(self):
+        found = []
+        for other in self.others:
+            found += [letter for letter, before in self.letters(other) if before <= self.lasting]
+            if self.taken(other, self.lasting):
+                found.append(("receipt", self.name, other, self.taken(other, self.lasting)))
+        return found
+
+    def flush(self):
+        self.lasting = len(self.took)
+
+    def checkpoint(self):
+        self.flush()
+        self.start = (len(self.took), self.steps, self.gone, self.greatest)
+
+    def fall(self, lost):
+        self.took = self.took[:max(self.lasting, len(self.took) - lost)]
+        self.lasting = len(self.took)
+        self.tray = {}
+        _, _, self.gone, self.greatest = self.start
+        self.steps = len(self.story()[0])
+
+    def journal(self):
+        return self.took[self.start[0]:]
+
+    def has_ended(self):
+        return self.story(self.steps)[3] == END
+
+    def deeds(self):
+        return self.story(self.steps)[0]
+
+    def variables(self):
+        return self.story(self.steps)[1]
+
+    def unreceipted(self, other):
+        return len(self.letters(other))

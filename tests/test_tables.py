@@ -7,26 +7,13 @@ import time
 import unittest
 
 import helpers
-from helpers import ONE
+from helpers import END, ONE, goals, shuffled, with_numbers, without_goals
 from onescore.clear import behind, is_witness, rest
 from onescore.errors import TooLarge, Unclear
 from onescore.flat import read_score
 from onescore.tables import alike, end_tables, least_table, paper
 
-END = ("end",)
 N = ("name", "n")
-
-
-def goals(state):
-    """The numbers in a state, in the order in which they stand in it."""
-    return {"get": [choice[2] for choice in state[2]] if state[0] == "get" else (), "end": (),
-            "if": state[-2:], "while": state[-2:]}.get(state[0], state[-1:])
-
-
-def without_goals(state):
-    if state[0] == "get":
-        return state[:2] + (tuple(choice[:2] for choice in state[2]),)
-    return state[:len(state) - len(goals(state))]
 
 
 def plain_alike(table):
@@ -75,26 +62,6 @@ def random_table(rng, many):
             ("get", "b", (("k", "x", at[0]), ("l", "y", at[1]))), ("get", "b", (("k", "x", at[0]),)),
             ("if", N, at[0], at[1]), ("while", rng.randrange(2), N, at[0], at[1]), END]))
     return tuple(table)
-
-
-def shuffled(rng, table, copies):
-    """A table with the same runs, with superfluous and alike states, and state 0 at its place."""
-    many = len(table) * copies
-    order = list(range(1, many))
-    rng.shuffle(order)
-    order = [0] + order
-    places = [order.index(at) for at in range(many)]
-    rows = [None] * many
-    for at in range(many):
-        numbers = [places[goal + len(table) * rng.randrange(copies)] for goal in goals(table[at % len(table)])]
-        rows[places[at]] = with_numbers(table[at % len(table)], numbers)
-    return tuple(rows)
-
-
-def with_numbers(state, numbers):
-    if state[0] == "get":
-        return state[:2] + (tuple(choice[:2] + (goal,) for choice, goal in zip(state[2], numbers)),)
-    return state[:len(state) - len(numbers)] + tuple(numbers)
 
 
 class Alike(unittest.TestCase):
