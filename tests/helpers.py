@@ -429,3 +429,109 @@ class SlowRunner:
 
     def unreceipted(self, other):
         return len(self.letters(other))
+
+
+def steps(one):
+    """The deeds that a runner does until it can do none."""
+    return list(iter(one.step, None))
+
+
+def talk_values(rng):
+    return rng.choice([ONE, ("name", "x"), ("name", "y"), ("-", ("name", "x"), ONE), ("<", ("name", "y"), ONE)])
+
+
+def talk(seed, most_ends=4, many=7):
+    """A tree whose score is clear, with inputs."""
+    rng = random.Random(seed)
+    ends = tuple("abcdef"[:rng.randint(2, most_ends)])
+    block = told(random_block(rng, ends, many, values=talk_values), ends)
+    inputs = {end: [rng.choice([0, 1, 2, 5, MOST]) for _ in range(rng.randint(0, 4))] for end in ends}
+    return (ends, (), block), inputs
+
+
+class SlowWorld:
+    """A world of slow runners."""
+
+    def __init__(self, ends, tables, inputs):
+        self.ends = ends
+        self.runners = {end: SlowRunner(ends, end, tables[end], inputs[end]) for end in ends}
+        self.items = []
+
+    def work(self, end, count):
+        return sum(1 for _ in range(count) if self.runners[end].step() is not None)
+
+    def flush(self, end):
+        self.runners[end].flush()
+
+    def checkpoint(self, end):
+        self.runners[end].checkpoint()
+
+    def fall(self, end, lost):
+        self.runners[end].fall(lost)
+
+    def post(self, end):
+        self.items = self.items + self.runners[end].outgoing()
+
+    def hand_over(self, index):
+        item = self.items[index]
+        self.lose(index)
+        self.runners[item[2]].deliver(item)
+
+    def lose(self, index):
+        self.items = self.items[:index] + self.items[index + 1:]
+
+    def double(self, index):
+        self.items = self.items + [self.items[index]]
+
+    def calm_round(self):
+        for end in self.ends:
+            steps(self.runners[end])
+            self.flush(end)
+            self.post(end)
+        for _ in range(len(self.items)):
+            self.hand_over(0)
+
+    def bag(self):
+        return self.items
+
+    def has_ended(self):
+        return all(one.has_ended() for one in self.runners.values())
+
+    def cut(self):
+        return tuple(len(self.runners[end].deeds()) for end in self.ends)
+
+    def deeds(self, end):
+        return self.runners[end].deeds()
+
+    def variables(self, end):
+        return self.runners[end].variables()
+
+    def journal(self, end):
+        return self.runners[end].journal()
+
+    def unreceipted(self, end, other):
+        return self.runners[end].unreceipted(other)
+
+
+def world_looks(world, ends):
+    """All that can be seen of a world."""
+    return (world.bag(), world.has_ended(), world.cut(),
+            [(world.deeds(end), world.variables(end), world.journal(end)) for end in ends],
+            [world.unreceipted(end, other) for end in ends for other in ends if end != other])
+
+
+def random_calls(rng, world, ends, many):
+    """Does random calls, and yields the name and the arguments of each one, to be done, in turn."""
+    names = (["work"] * 4 + ["post"] * 3 + ["hand_over"] * 5 + ["flush"] * 2 +
+             rng.choice([[], ["fall"], ["fall", "fall", "checkpoint"], ["checkpoint"]]) +
+             rng.choice([[], ["lose"], ["double"], ["lose", "double", "double"]]) + rng.choice([[], ["calm_round"]]))
+    for _ in range(many):
+        name = rng.choice(names)
+        if name in ("hand_over", "lose", "double"):
+            if world.bag():
+                yield name, (rng.randrange(len(world.bag())),)
+        elif name == "calm_round":
+            yield name, ()
+        else:
+            more = {"work": [0, 1, 2, 9], "fall": [0, 0, 1, 2, 9]}.get(name)
+            yield name, (rng.choice(ends),) + ((rng.choice(more),) if more else ())

@@ -4,14 +4,11 @@ import copy
 import random
 import unittest
 
-import helpers
-from helpers import END, MOST, ONE, SlowRun, SlowRunner
+from helpers import END, MOST, SlowRun, SlowRunner, steps, talk
 from onescore.errors import UnknownEnd
-from onescore.flat import read_score
+from onescore.flat import Score, read_score
 from onescore.runner import Runner
 from onescore.tables import end_tables
-
-N = ("name", "n")
 
 
 def runner(text, name, *inputs):
@@ -26,11 +23,6 @@ def letter(sender, receiver, number, label, value):
 
 def receipt(sender, receiver, count):
     return ("receipt", sender, receiver, count)
-
-
-def steps(one):
-    """The deeds that a runner does until it can do none."""
-    return list(iter(one.step, None))
 
 
 def looks(one, others):
@@ -559,14 +551,10 @@ class Together(unittest.TestCase):
     def cases(self, seeds):
         """Scores with tables, and inputs."""
         for seed in seeds:
-            rng = random.Random(seed)
-            ends = tuple("abcd"[:rng.randint(2, 4)])
-            block = helpers.told(helpers.random_block(rng, ends, 7, values=values), ends)
-            score = helpers.Score((ends, (), block))
-            inputs = {end: [rng.choice([0, 1, 2, 5, MOST]) for _ in range(rng.randint(0, 4))] for end in ends}
-            slow = SlowRun((ends, (), block), inputs)
+            tree, inputs = talk(seed)
+            slow = SlowRun(tree, inputs)
             if len(slow.deeds) < 60:
-                yield rng, score, inputs, slow
+                yield random.Random(seed), Score(tree), inputs, slow
 
     def test_random_calls_do_what_a_slow_runner_does(self):
         looked = 0
@@ -633,10 +621,6 @@ class Together(unittest.TestCase):
         self.assertEqual(looks(second, "bc"), kept)
         self.assertIsNone(second.fall(0))
         self.assertEqual(len(second.deeds()), 2)
-
-
-def values(rng):
-    return rng.choice([ONE, ("name", "x"), ("name", "y"), ("-", ("name", "x"), ONE), ("<", ("name", "y"), ONE)])
 
 
 if __name__ == "__main__":
