@@ -34,8 +34,9 @@ class Tells:
     """Which ends are told, and with which names."""
 
     def __init__(self, tree):
-        self.labels, used = names_in(tree)
-        self.variable = free_name("told", used)
+        labels, variables = names_in(tree)
+        self.labels = labels
+        self.variable = free_name("told", variables)
         self.told = []
 
     def of(self, decider, answer, position):
