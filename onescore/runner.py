@@ -7,7 +7,7 @@ from onescore.tables import goals_of
 
 
 def choice_of(state, label):
-    """Returns the choice of a get state for a label, or None if it has none."""
+    """Returns the choice of a get state, or of a wait in code, for a label, or None if it has none."""
     for choice in state[2]:
         if choice[0] == label:
             return choice

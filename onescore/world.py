@@ -6,6 +6,12 @@ from onescore.runner import Runner
 from onescore.tables import end_tables
 
 
+def check_index(items, index):
+    """Returns None if there is something with this index in a bag, otherwise raises NoSuchLetter."""
+    if index < 0 or index >= len(items):
+        raise NoSuchLetter("there is nothing with this index in the bag")
+
+
 class World:
     """The runners of the ends of a clear score, with a bag."""
 
@@ -20,11 +26,6 @@ class World:
         if end not in self.runners:
             raise UnknownEnd("there is no such end")
         return self.runners[end]
-
-    def check_index(self, index):
-        """Returns None if there is something with this index in the bag, otherwise raises NoSuchLetter."""
-        if index < 0 or index >= len(self.under_way):
-            raise NoSuchLetter("there is nothing with this index in the bag")
 
     def work(self, end, count):
         """Lets an end do up to count deeds; returns the number of those that it did."""
@@ -56,18 +57,18 @@ class World:
 
     def hand_over(self, index):
         """Takes something out of the bag and delivers it to its end."""
-        self.check_index(index)
+        check_index(self.under_way, index)
         item = self.under_way.pop(index)
         self.runners[item[2]].deliver(item)
 
     def lose(self, index):
         """Takes something out of the bag."""
-        self.check_index(index)
+        check_index(self.under_way, index)
         del self.under_way[index]
 
     def double(self, index):
         """Puts something in the bag into it once more, at the end."""
-        self.check_index(index)
+        check_index(self.under_way, index)
         self.under_way.append(self.under_way[index])
 
     def calm_round(self):

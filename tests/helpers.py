@@ -18,6 +18,9 @@ ZERO = ("number", 0)
 ONE = ("number", 1)
 END = ("end",)
 MOST = 4294967295
+# Too many states for one end: it gets to know only at last how many letters ago it was where.
+LETTERS = "if a: 1 { a -> b: x(0) as n } else { a -> b: y(0) as n } "
+TOO_LARGE = "ends a, b play { while a: 1 { " + LETTERS + "} a -> b: x(0) as n " + LETTERS * 9 + "a -> b: z(0) as n }"
 
 
 def place_of_failure(text):
@@ -535,3 +538,30 @@ def random_calls(rng, world, ends, many):
         else:
             more = {"work": [0, 1, 2, 9], "fall": [0, 0, 1, 2, 9]}.get(name)
             yield name, (rng.choice(ends),) + ((rng.choice(more),) if more else ())
+
+
+def hand_letters(waiting, deeds):
+    """Puts the letters that deeds send behind those that wait, lists of pairs for each pair of ends."""
+    for kind, end, *parts in deeds:
+        if kind == "send":
+            waiting.setdefault((end, parts[0]), []).append(tuple(parts[1:]))
+
+
+def machines_deeds(machines, rng, most=100000):
+    """The deeds of machines that talk with each other: letters in portions, and a few deeds at a time."""
+    waiting = {}
+    deeds = {end: [] for end in machines}
+    for _ in range(most):
+        if all(machine.has_ended() for machine in machines.values()):
+            break
+        end = rng.choice(sorted(machines))
+        letters = {other: list(waiting.get((other, end), [])) for other in machines if other != end}
+        if rng.random() < 0.5:
+            letters = {other: rows[:rng.randint(0, len(rows))] for other, rows in letters.items()}
+        done, taken = machines[end].run(letters, rng.choice([0, 1, 2, 5, 1000]))
+        for other, many in taken.items():
+            assert many > 0 and waiting[(other, end)][:many] == letters[other][:many]
+            del waiting[(other, end)][:many]
+        deeds[end] += done
+        hand_letters(waiting, done)
+    return deeds

@@ -20,6 +20,8 @@ FUNCTIONS = {
     "meaning": ["is_even(run, cut)", "even_cuts(run)"],
     "explore": ["possible_cuts(score, inputs)"],
     "mend": ["mended(tree)"],
+    "prices": ["least_price(score)", "greatest_price(score)"],
+    "code": ["code_of(table)", "is_sound(ends, code)"],
 }
 CLASSES = {
     ("flat", "Score"): ["__init__(self, tree)"],
@@ -35,6 +37,13 @@ CLASSES = {
         "variables(self, end)", "journal(self, end)", "unreceipted(self, end, other)"],
     ("watch", "Watcher"): ["__init__(self, score, end)", "send(self, to, label)", "get(self, other, label)",
                            "next_letters(self)"],
+    ("machine", "Machine"): ["__init__(self, name, code, inputs)", "run(self, letters, count)", "has_ended(self)",
+                             "variables(self)"],
+    ("hall", "Hall"): [
+        "__init__(self, houses)", "begin(self, score, inputs, homes)", "work(self, play, end, count)",
+        "tidy(self, house)", "fall(self, house)", "bag(self)", "hand_over(self, index)", "lose(self, index)",
+        "double(self, index)", "calm_round(self)", "has_ended(self, play)", "cut(self, play)",
+        "deeds(self, play, end)", "variables(self, play, end)", "plays(self)", "put_away(self, play)"],
 }
 
 

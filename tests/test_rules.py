@@ -14,9 +14,10 @@ BUILTINS = set("""len range enumerate zip min max sum abs sorted reversed int st
     staticmethod classmethod Exception ValueError TypeError KeyError IndexError LookupError ZeroDivisionError
     ArithmeticError OverflowError RuntimeError NotImplementedError AttributeError StopIteration
     NotImplemented object float""".split())
-BARRED = set("""register mro elements open input law version_info with_traceback add_note attrgetter breakpoint
+BARRED_NAMES = set("""register mro elements open input law version_info with_traceback add_note attrgetter breakpoint
     compile copyright credits delattr dir eval exec exit gc globals help id importlib license locals methodcaller
-    os quit vars sys typing typing_extensions enum Enum IntEnum StrEnum Flag IntFlag Generic Protocol ABC ABCMeta
+    os quit vars sys""".split())
+BARRED_WORDS = set("""typing typing_extensions enum Enum IntEnum StrEnum Flag IntFlag Generic Protocol ABC ABCMeta
     namedtuple NamedTuple TypedDict TYPE_CHECKING abstractmethod dataclass overload contextmanager""".split())
 LIBRARY = {"__future__", "heapq", "math", "itertools", "collections"}
 
@@ -61,9 +62,8 @@ def docstrings(tree):
             if isinstance(node, (ast.Module, ast.FunctionDef, ast.ClassDef)) and ast.get_docstring(node) is not None}
 
 
-def words_of(tree):
-    """Names, attributes, and the words of strings that are no docstrings."""
-    passed_over = docstrings(tree)
+def names_of(tree):
+    """Names, parameters, attributes, and what functions and classes are called."""
     for node in ast.walk(tree):
         if isinstance(node, ast.Name):
             yield node.id
@@ -71,9 +71,16 @@ def words_of(tree):
             yield node.attr
         elif isinstance(node, (ast.FunctionDef, ast.ClassDef)):
             yield node.name
-        elif isinstance(node, ast.arg):
+        elif isinstance(node, (ast.arg, ast.keyword)) and node.arg is not None:
             yield node.arg
-        elif isinstance(node, ast.Constant) and isinstance(node.value, str) and id(node) not in passed_over:
+
+
+def words_of(tree):
+    """Names, and the words of strings that are no docstrings."""
+    passed_over = docstrings(tree)
+    yield from names_of(tree)
+    for node in ast.walk(tree):
+        if isinstance(node, ast.Constant) and isinstance(node.value, str) and id(node) not in passed_over:
             yield from node.value.split()
 
 
@@ -131,7 +138,8 @@ class LookedUp(unittest.TestCase):
 
     def test_barred_words(self):
         for name, tree in self.trees():
-            self.assertEqual(set(words_of(tree)) & BARRED, set(), name)
+            self.assertEqual(set(names_of(tree)) & (BARRED_NAMES | BARRED_WORDS), set(), name)
+            self.assertEqual(set(words_of(tree)) & BARRED_WORDS, set(), name)
 
     def test_no_percent_sign_in_strings_and_no_floats(self):
         for name, tree in self.trees():

@@ -4,8 +4,8 @@ import copy
 import unittest
 
 from helpers import ZERO
-from onescore import (checks, clear, explore, flat, judge, meaning, mend, numbers, printer, reader, runner, tables,
-                      watch, ways, world)
+from onescore import (checks, clear, code, explore, flat, hall, judge, machine, meaning, mend, numbers, prices, printer,
+                      reader, runner, tables, watch, ways, world)
 from onescore.errors import ScoreError, Unclear
 
 TEXT = ("ends a, b play { a asks n while a: n { a -> b: more(n) as k a sets n = n - 1 } a -> b: stop(0) as k "
@@ -28,6 +28,10 @@ def inputs():
 
 def run():
     return meaning.PlainRun(score(), inputs())
+
+
+def made_code():
+    return code.code_of(tables.end_tables(score())["a"])
 
 
 # Functions with makers of their arguments: each case makes all of them anew.
@@ -54,6 +58,10 @@ CASES = [
     (explore.possible_cuts, lambda: (score(), inputs())), (explore.possible_cuts, lambda: (unclear(), inputs())),
     (mend.mended, lambda: (reader.read_tree(TEXT),)), (mend.mended, lambda: (reader.read_tree(UNCLEAR),)),
     (watch.Watcher, lambda: (score(), "a")),
+    (prices.least_price, lambda: (score(),)), (prices.greatest_price, lambda: (score(),)),
+    (code.code_of, lambda: (tables.end_tables(score())["a"],)), (code.is_sound, lambda: (("a", "b"), made_code())),
+    (code.is_sound, lambda: (("a", "c"), made_code())), (machine.Machine, lambda: ("a", made_code(), [2, 7])),
+    (hall.Hall, lambda: (("x", "y"),)),
 ]
 
 
@@ -76,6 +84,16 @@ TALKS = [
     (lambda: watch.Watcher(score(), "b"),
      [("next_letters",), ("get", "a", "more"), ("next_letters",), ("next_letters",), ("get", "a", "stop"),
       ("next_letters",), ("send", "b", "back"), ("next_letters",)]),
+    (lambda: machine.Machine("a", made_code(), [2, 7]),
+     [("run", {"b": [("back", 3)]}, 2), ("variables",), ("run", {}, 0), ("run", {"b": [("k", 3)]}, 90), ("has_ended",),
+      ("variables",), ("run", {"b": [("back", 3), ("back", 4)]}, 90), ("variables",), ("has_ended",), ("run", {}, 3)]),
+    (lambda: hall.Hall(("x", "y")),
+     [("begin", score(), inputs(), {"a": "x", "b": "y"}), ("begin", score(), inputs(), {"a": "y", "b": "y"}), ("plays",),
+      ("begin", score(), inputs(), {"a": "y"}), ("begin", score(), {}, {"a": "y", "b": "x"}), ("work", 0, "a", 9),
+      ("tidy", "x"), ("bag",), ("bag",), ("double", 0), ("hand_over", 0), ("bag",), ("work", 0, "b", 9), ("deeds", 0, "a"),
+      ("deeds", 0, "a"), ("variables", 0, "a"), ("fall", "y"), ("fall", "z"), ("cut", 0), ("put_away", 0), ("lose", 99)] +
+     [("calm_round",)] * 5 + [("has_ended", 0), ("put_away", 0), ("plays",), ("plays",), ("bag",), ("deeds", 1, "b"),
+                              ("variables", 1, "b"), ("cut", 1), ("put_away", 0), ("cut", 0)]),
 ]
 
 
@@ -134,9 +152,15 @@ class Shared(unittest.TestCase):
             kept, spoiled, other = made(), made(), made()
             untouched = shown(other)
             for name, *arguments in calls:
+                passed = copy.deepcopy(arguments)
                 first = result(getattr(kept, name), *arguments)
-                second = result(getattr(spoiled, name), *arguments)
+                before = shown(spoiled)
+                second = result(getattr(spoiled, name), *passed)
+                self.assertEqual(shown(passed), shown(arguments), name)
                 self.assertEqual(shown(first), shown(second), name)
+                spoil(passed)
+                if isinstance(second, ScoreError):
+                    self.assertEqual(shown(spoiled), before, name)
                 spoil(second)
                 self.assertEqual(shown(spoiled), shown(kept), name)
             self.assertEqual(shown(other), untouched)

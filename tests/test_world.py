@@ -5,7 +5,7 @@ import random
 import time
 import unittest
 
-from helpers import SlowRun, SlowWorld, random_calls, talk, told, world_looks
+from helpers import TOO_LARGE, SlowRun, SlowWorld, random_calls, talk, told, world_looks
 from onescore.errors import InvalidInputs, NoSuchLetter, TooLarge, Unclear, UnknownEnd
 from onescore.flat import Score, read_score
 from onescore.meaning import PlainRun, is_even
@@ -29,9 +29,6 @@ def receipt(sender, receiver, count):
 
 THERE_AND_BACK = ("ends a, b play { a asks n a -> b: k(n) as x a -> b: l(n + 1) as y b sets z = x + y "
                   "b -> a: m(z) as r a asks q }")
-# Too many states for one end: it gets to know only at last how many letters ago it was where.
-LETTERS = "if a: 1 { a -> b: x(0) as n } else { a -> b: y(0) as n } "
-TOO_LARGE = "ends a, b play { while a: 1 { " + LETTERS + "} a -> b: x(0) as n " + LETTERS * 9 + "a -> b: z(0) as n }"
 
 
 class Calls(unittest.TestCase):
