@@ -99,22 +99,26 @@ def plain_deeds(score, memories):
     return deeds
 
 
-def needs_of(ends, deeds):
-    """Returns a tuple for each end with a pair for each of its deeds.
-
-    A pair (at, many) says that the deed needs the first many deeds of the end
-    with the index at. It is (0, 0) for all deeds but those of kind get.
-    """
+def clocks_of(ends, deeds):
+    """Returns the list of the clocks of the deeds of a plain run (point 43)."""
     numbers = {end: at for at, end in enumerate(ends)}
-    needs = [[] for _ in ends]
-    for kind, end, *parts in deeds:
-        need = (0, 0)
-        if kind == "get":
-            # The send of the same message is the deed directly before: the last one of its end so far.
-            at = numbers[parts[0]]
-            need = (at, len(needs[at]))
-        needs[numbers[end]].append(need)
-    return tuple([tuple(pairs) for pairs in needs])
+    latest = {end: tuple([0] * len(ends)) for end in ends}
+    clocks = []
+    for deed in deeds:
+        end = deed[1]
+        clock = latest[end]
+        if deed[0] == "get":
+            # The send of the same message is the deed directly before.
+            clock = tuple([max(pair) for pair in zip(clock, clocks[-1])])
+        at = numbers[end]
+        latest[end] = clock[:at] + (clock[at] + 1,) + clock[at + 1:]
+        clocks.append(latest[end])
+    return clocks
+
+
+def is_within(clock, other):
+    """Tells whether a clock is nowhere greater than another one, or than a cut."""
+    return all([number <= bound for number, bound in zip(clock, other)])
 
 
 class PlainRun:
@@ -126,30 +130,33 @@ class PlainRun:
         self.deeds = tuple(plain_deeds(score, memories))
         self.rows = {end: tuple([deed for deed in self.deeds if deed[1] == end]) for end in score.ends}
         self.variables = {end: dict(memories[end].variables) for end in score.ends}
-        self.needs = needs_of(score.ends, self.deeds)
+        self.clocks = tuple(clocks_of(score.ends, self.deeds))
+        self.clock_rows = tuple([self.clock_row(end) for end in score.ends])
+
+    def clock_row(self, end):
+        """Returns the tuple of the clocks of the deeds of an end."""
+        return tuple([clock for deed, clock in zip(self.deeds, self.clocks) if deed[1] == end])
 
 
 def is_even(run, cut):
     """Tells whether a tuple with a number of deeds for each end is even."""
-    for needs, done in zip(run.needs, cut):
-        if not all([cut[at] >= many for at, many in needs[:done]]):
-            return False
-    return True
+    # The clock of the last deed of an end tells what is needed for all of its deeds.
+    return all([done == 0 or is_within(row[done - 1], cut) for row, done in zip(run.clock_rows, cut)])
 
 
 def even_cuts(run):
     """Returns the ascending list of all even cuts, or raises TooLarge if there are more than 3000."""
-    first = tuple([0] * len(run.needs))
+    first = tuple([0] * len(run.clock_rows))
     found = {first}
     waiting = [first]
     # Each even cut comes from another one by one deed more: leave out the last deed of the plain run in it.
     while waiting:
         cut = waiting.pop()
-        for end, needs in enumerate(run.needs):
-            if cut[end] == len(needs) or cut[needs[cut[end]][0]] < needs[cut[end]][1]:
+        for end, row in enumerate(run.clock_rows):
+            if cut[end] == len(row):
                 continue
             grown = cut[:end] + (cut[end] + 1,) + cut[end + 1:]
-            if grown not in found:
+            if grown not in found and is_within(row[cut[end]], grown):
                 found.add(grown)
                 waiting.append(grown)
         if len(found) > MOST_CUTS:

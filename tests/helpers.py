@@ -565,3 +565,27 @@ def machines_deeds(machines, rng, most=100000):
         deeds[end] += done
         hand_letters(waiting, done)
     return deeds
+
+
+def plain_way(score, deeds):
+    """The way along which a plain run goes, from its deeds."""
+    way, position, at = [], 0, 0
+    while position < len(score.statements):
+        kind = score.statements[position][0]
+        answer = deeds[at][-1] if kind in ("if", "while") else ""
+        way.append((position, answer))
+        position = score.next[position][1 if answer == "no" else 0]
+        at += 2 if kind == "message" else 1
+    return way
+
+
+def random_way(rng, score, longest):
+    """A way with at most so many steps; whiles are answered yes more often than not."""
+    way, position = [], 0
+    while len(way) < longest and position < len(score.statements):
+        answer = ""
+        if score.statements[position][0] in ("if", "while"):
+            answer = rng.choice(["yes", "yes", "no"] if score.statements[position][0] == "while" else ["yes", "no"])
+        way.append((position, answer))
+        position = score.next[position][1 if answer == "no" else 0]
+    return way

@@ -22,6 +22,11 @@ FUNCTIONS = {
     "mend": ["mended(tree)"],
     "prices": ["least_price(score)", "greatest_price(score)"],
     "code": ["code_of(table)", "is_sound(ends, code)"],
+    "accounts": ["explanation(score, account)", "part_explanation(score, account)", "looks_of(deeds, score, end)"],
+    "order": ["clocks(run)", "comes_before(run, first, second)", "apart(run, first, second)", "rounds(run)"],
+    "saving": ["save_world(world)", "open_world(score, inputs, saved)", "lasting_cut(world)"],
+    "exchange": ["may_exchange(tree, path)", "exchanged(tree, path)"],
+    "listing": ["write_code(code)", "read_code(text)"],
 }
 CLASSES = {
     ("flat", "Score"): ["__init__(self, tree)"],

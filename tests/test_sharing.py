@@ -4,13 +4,14 @@ import copy
 import unittest
 
 from helpers import ZERO
-from onescore import (checks, clear, code, explore, flat, hall, judge, machine, meaning, mend, numbers, prices, printer,
-                      reader, runner, tables, watch, ways, world)
+from onescore import (accounts, checks, clear, code, exchange, explore, flat, hall, judge, listing, machine, meaning, mend,
+                      numbers, order, prices, printer, reader, runner, saving, tables, watch, ways, world)
 from onescore.errors import ScoreError, Unclear
 
 TEXT = ("ends a, b play { a asks n while a: n { a -> b: more(n) as k a sets n = n - 1 } a -> b: stop(0) as k "
         "b -> a: back(k + 1) as m }")
 UNCLEAR = "ends a, b play { a asks n if a: n { b asks x } else { a asks n } }"
+APART = "ends a, b play { while a: 1 { a -> b: k(1) as x a asks n b asks n } }"
 INPUTS = {"a": [2, 7], "b": [1]}
 
 
@@ -32,6 +33,19 @@ def run():
 
 def made_code():
     return code.code_of(tables.end_tables(score())["a"])
+
+
+def made_account():
+    row = run().rows
+    return {"a": accounts.looks_of(list(row["a"][:4]), score(), "a"), "b": accounts.looks_of(list(row["b"][:1]), score(), "b")}
+
+
+def made_world():
+    one = world.World(score(), inputs())
+    for name, *arguments in (("work", "a", 8), ("post", "a"), ("double", 1), ("hand_over", 1), ("hand_over", 0), ("work", "b", 1),
+                             ("flush", "b"), ("post", "b"), ("hand_over", 1), ("checkpoint", "a"), ("work", "a", 3)):
+        getattr(one, name)(*arguments)
+    return one
 
 
 # Functions with makers of their arguments: each case makes all of them anew.
@@ -62,6 +76,20 @@ CASES = [
     (code.code_of, lambda: (tables.end_tables(score())["a"],)), (code.is_sound, lambda: (("a", "b"), made_code())),
     (code.is_sound, lambda: (("a", "c"), made_code())), (machine.Machine, lambda: ("a", made_code(), [2, 7])),
     (hall.Hall, lambda: (("x", "y"),)),
+    (accounts.explanation, lambda: (score(), {"a": [("ask", "n")], "b": []})),
+    (accounts.explanation, lambda: (score(), made_account())), (accounts.part_explanation, lambda: (score(), made_account())),
+    (accounts.part_explanation, lambda: (score(), {"a": [], "b": [("ask", "n")]})),
+    (accounts.part_explanation, lambda: (score(), {"a": []})),
+    (accounts.looks_of, lambda: (list(run().rows["a"]), score(), "a")),
+    (accounts.looks_of, lambda: ([("ask", "b", "x", 1)], unclear(), "b")), (accounts.looks_of, lambda: ([], score(), "b")),
+    (order.clocks, lambda: (run(),)), (order.comes_before, lambda: (run(), 0, 4)), (order.apart, lambda: (run(), 4, 5)),
+    (order.rounds, lambda: (run(),)), (saving.save_world, lambda: (made_world(),)),
+    (saving.open_world, lambda: (score(), inputs(), saving.save_world(made_world()))),
+    (saving.open_world, lambda: (score(), {"a": []}, saving.save_world(made_world()))),
+    (saving.lasting_cut, lambda: (made_world(),)), (exchange.may_exchange, lambda: (reader.read_tree(APART), (0, 0, 1))),
+    (exchange.exchanged, lambda: (reader.read_tree(APART), (0, 0, 1))),
+    (exchange.exchanged, lambda: (reader.read_tree(APART), (0, 0, 0))), (listing.write_code, lambda: (made_code(),)),
+    (listing.read_code, lambda: (listing.write_code(made_code()),)), (listing.read_code, lambda: ("stop\nhalt\n",)),
 ]
 
 
@@ -176,6 +204,17 @@ class Shared(unittest.TestCase):
                 if hasattr(first, name):
                     getattr(first, name)()
             self.assertEqual((shown(second), shown(one)), (kept, before))
+
+    def test_saved_and_opened_worlds(self):
+        first = made_world()
+        saved = saving.save_world(first)
+        second = saving.open_world(score(), inputs(), saved)
+        kept = shown(first)
+        self.assertEqual(shown(second), kept)
+        for name, *arguments in (("calm_round",), ("fall", "a", 9), ("flush", "b"), ("checkpoint", "b"), ("lose", 99),
+                                 ("calm_round",)):
+            result(getattr(second, name), *arguments)
+        self.assertEqual((shown(first), saving.save_world(first)), (kept, saved))
 
     def test_the_ways_of_an_error(self):
         error = result(tables.paper, unclear())
