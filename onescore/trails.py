@@ -67,6 +67,7 @@ class Trails:
         self.groups = {}
         # Pairs of the index of the look before and a look.
         self.looks = []
+        # Whether no place was left out as the double of another one.
         self.is_whole = True
         self.rows = [Trail(own_memory(deeds), (0,), -1)]
         for deed in deeds:
