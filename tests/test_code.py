@@ -204,7 +204,7 @@ class Values(unittest.TestCase):
         self.assertIs(is_sound(ENDS, code), True)
         for on_the_right in (False, True):
             self.assertIs(is_sound(ENDS, code_of((("set", "x", chain("<", 3000, on_the_right), 1), END))), True)
-        self.assertLess(time.monotonic() - before, 4)
+        self.assertLess(time.monotonic() - before, 10)
 
 
 def sound(*code):
