@@ -45,7 +45,7 @@ def hopes(score, end, looks):
     goals = {}
     for key, position, _, goal in steps_of(score, end):
         goals.setdefault(key, []).append((position, goal))
-    found = [bits_of(range(len(score.statements) + 1))]
+    found = [bits_of(list(range(len(score.statements) + 1)))]
     for key in looks[::-1]:
         places = 0
         for position, goal in goals.get(key, []):

@@ -20,6 +20,10 @@ BARRED_NAMES = set("""register mro elements open input law version_info with_tra
 BARRED_WORDS = set("""typing typing_extensions enum Enum IntEnum StrEnum Flag IntFlag Generic Protocol ABC ABCMeta
     namedtuple NamedTuple TypedDict TYPE_CHECKING abstractmethod dataclass overload contextmanager""".split())
 LIBRARY = {"__future__", "heapq", "math", "itertools", "collections"}
+# What is gone through on the spot, and the builtins of which it may be an argument.
+WALKED = {"range", "zip", "enumerate", "reversed"}
+VIEWS = {"items", "keys", "values"}
+WALKERS = set("list tuple dict sorted sum any all enumerate zip min max bytes len reversed".split())
 
 
 def faults_of_size(path):
@@ -84,6 +88,37 @@ def words_of(tree):
             yield from node.value.split()
 
 
+def is_walked(node):
+    """Whether a node is a range, zip, enumerate or reversed, or a view of a dict."""
+    if not isinstance(node, ast.Call):
+        return False
+    if isinstance(node.func, ast.Attribute):
+        return node.func.attr in VIEWS and not node.args and not node.keywords
+    return isinstance(node.func, ast.Name) and node.func.id in WALKED
+
+
+def faults_of_arguments(text):
+    """L23: the calls, by line and column, that are passed what is gone through on the spot and are none of WALKERS.
+
+    It is also told if a name of the same function keeps it.
+    """
+    tree = ast.parse(text)
+    faults = set()
+    for scope in [tree] + [node for node in ast.walk(tree) if isinstance(node, ast.FunctionDef)]:
+        kept = {target.id for node in ast.walk(scope) if isinstance(node, ast.Assign) and is_walked(node.value)
+                for target in node.targets if isinstance(target, ast.Name) and scope is not tree}
+        for call in ast.walk(scope):
+            if not isinstance(call, ast.Call) or (isinstance(call.func, ast.Name) and call.func.id in WALKERS):
+                continue
+            if isinstance(call.func, ast.Attribute) and call.func.attr == "join":
+                continue
+            given = [part.value if isinstance(part, ast.Starred) else part for part in call.args]
+            given += [keyword.value for keyword in call.keywords]
+            if any(is_walked(part) or (isinstance(part, ast.Name) and part.id in kept) for part in given):
+                faults.add((call.lineno, call.col_offset))
+    return sorted(faults)
+
+
 class Counted(unittest.TestCase):
     def test_there_are_files(self):
         self.assertIn(PACKAGE / "__init__.py", FILES)
@@ -112,6 +147,30 @@ class Counted(unittest.TestCase):
         for path in PACKAGE.rglob("*"):
             if "__pycache__" not in path.parts:
                 self.assertTrue(path.suffix == ".py" and path.name == path.name.lower(), path)
+
+
+class Arguments(unittest.TestCase):
+    def test_nothing_walked_is_passed_on(self):
+        for path in FILES:
+            self.assertEqual(faults_of_arguments(path.read_text(encoding="utf-8")), [], path.name)
+
+    def test_the_looking_itself(self):
+        wrong = ("bits_of({})", "found = [bits_of({})]", "self.told(1, {})", "box.rows[0]({})", "Box(rows={})", "told(*{})",
+                 "seen.append({})", "xs.extend({})", "k in set({})", "for x in steps({}): pass", "f = lambda: told({})",
+                 "if a:\n    rows = [told(k, {}) for k in xs]", "def f():\n    rows = {}\n    told(rows)",
+                 "def f():\n    if a:\n        rows = {}\n        return self.told(1, rows=rows)",
+                 "class Box:\n    def f(self):\n        return told({})")
+        right = ("for x in {}: pass", "xs = [x for x in {}]", "xs = list({})", "told(list({}))", "told(sorted({}))",
+                 "told(max({}))", "told([x for x in {}])", "''.join({})", "told(sum(x for x in {}))",
+                 "for x, y in zip({}, ys): pass", "def f():\n    rows = {}\n    told(list(rows))",
+                 "def f():\n    rows = {}\n    return list(rows)\n\ndef g(rows):\n    told(rows)")
+        for walked in ("range(3)", "range(len(xs) + 1)", "zip(xs, ys)", "enumerate(xs)", "reversed(xs)", "d.items()",
+                       "self.rows.keys()", "d[k].values()"):
+            for text in wrong:
+                self.assertEqual(len(faults_of_arguments(text.format(walked))), 1, (text, walked))
+            for text in right:
+                self.assertEqual(faults_of_arguments(text.format(walked)), [], (text, walked))
+        self.assertEqual(faults_of_arguments("told(d.items(1), xs, items(), values)"), [])
 
 
 class LookedUp(unittest.TestCase):
