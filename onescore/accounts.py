@@ -2,7 +2,8 @@
 
 from onescore.errors import TooLarge, UnknownEnd
 from onescore.partial import Search
-from onescore.trails import Guesses, Trails
+from onescore.runs import AllAtOnce, OneByOne
+from onescore.trails import Trails
 from onescore.trees import key_of
 from onescore.ways import concerns, look_at, steps_at
 
@@ -54,10 +55,16 @@ def part_explanation(score, account):
 
 def looks_of(deeds, score, end):
     """Returns the list of the looks of an end whose deeds begin a row of a plain run."""
-    for by_numbers in (False, True):
-        trails = Trails(score, end, deeds, by_numbers)
-        if trails.is_certain():
-            return trails.first_looks()
+    by_labels = Trails(score, end, deeds, False)
+    if by_labels.is_certain():
+        return by_labels.first_looks()
+    by_numbers = Trails(score, end, deeds, True)
+    if by_numbers.is_certain():
+        return by_numbers.first_looks()
     # Which of several rows of looks belongs to a plain run depends on the others, too.
-    found = Guesses(score, end, deeds).found_looks()
-    return trails.first_looks() if found is None else found
+    looks = OneByOne(score, end, deeds).found_looks()
+    if looks is None:
+        looks = AllAtOnce(score, end, deeds).found_looks()
+    if looks is not None:
+        return looks
+    return by_numbers.first_looks() if by_numbers.rows else by_labels.first_looks()

@@ -36,22 +36,31 @@ def with_ways_to(score, end, places):
     return places
 
 
-def hopes(score, end, looks):
+def hopes(score, end, goals, keys):
     """Returns a list with the places from which an end can see all its looks from a number on, for each number.
 
-    What the others see is not looked at: where there is no hope for one end,
-    there is none for all together.
+    keys has a key for each look, and goals the list of pairs (position, goal)
+    of the steps that give it. What the others see is not looked at: where there
+    is no hope for one end, there is none for all together.
     """
+    found = [bits_of(list(range(len(score.statements) + 1)))]
+    before = {}
+    for key in keys[::-1]:
+        if (key, found[-1]) not in before:
+            places = 0
+            for position, goal in goals.get(key, []):
+                places |= (found[-1] >> goal & 1) << position
+            before[(key, found[-1])] = with_ways_to(score, end, places)
+        found.append(before[(key, found[-1])])
+    return found[::-1]
+
+
+def goals_of(score, end):
+    """Returns a dict from the key of each look of an end to the list of pairs (position, goal) of its steps."""
     goals = {}
     for key, position, _, goal in steps_of(score, end):
         goals.setdefault(key, []).append((position, goal))
-    found = [bits_of(list(range(len(score.statements) + 1)))]
-    for key in looks[::-1]:
-        places = 0
-        for position, goal in goals.get(key, []):
-            places |= (found[-1] >> goal & 1) << position
-        found.append(with_ways_to(score, end, places))
-    return found[::-1]
+    return goals
 
 
 def own_steps(score, end):
@@ -76,7 +85,7 @@ class Search:
         self.score = score
         self.looks = [looks[end] for end in score.ends]
         self.all_seen = tuple([len(row) for row in self.looks])
-        self.hopes = [hopes(score, end, looks[end]) for end in score.ends]
+        self.hopes = [hopes(score, end, goals_of(score, end), looks[end]) for end in score.ends]
         self.steps = [own_steps(score, end) for end in score.ends]
         self.concerned = [[at for at, end in enumerate(score.ends) if concerns(score, position, end)]
                           for position in range(len(score.statements))]

@@ -1,11 +1,13 @@
 """What an end saw, told from its deeds (point 41)."""
 
 from onescore.clear import rest
-from onescore.meaning import Memory, deeds_at, own_deed
+from onescore.meaning import Memory, own_deed
 from onescore.numbers import number_of
 from onescore.ways import act_at, look_at
 
-MOST_STEPS = 100000
+# How many trails are made before it is given up, and how many more for each deed.
+MOST_TRAILS = 10000
+MORE_TRAILS = 4
 
 
 def answer_of(deed):
@@ -54,7 +56,8 @@ class Trails:
     """All rows of looks with which an end does its deeds, whatever the others decide.
 
     For a clear score, there is only one, and the numbers in the deeds need not
-    be looked at: the end follows its table in one way only.
+    be looked at: the end follows its table in one way only. If they are looked
+    at, there may be very many; then it is given up, and there are no rows.
     """
 
     def __init__(self, score, end, deeds, by_numbers):
@@ -70,8 +73,12 @@ class Trails:
         # Whether no place was left out as the double of another one.
         self.is_whole = True
         self.rows = [Trail(own_memory(deeds), (0,), -1)]
+        most = MOST_TRAILS + MORE_TRAILS * len(deeds)
         for deed in deeds:
             self.follow(deed)
+            if by_numbers and len(self.looks) > most:
+                self.rows = []
+                break
 
     def follow(self, deed):
         """Lets all trails go on by a deed."""
@@ -130,61 +137,3 @@ class Trails:
             at, look = self.looks[at]
             found.append(look)
         return found[::-1]
-
-
-class Guesses:
-    """Plain runs in which an end does its deeds, and the others take guessed inputs."""
-
-    def __init__(self, score, end, deeds):
-        self.score = score
-        self.end = end
-        self.deeds = deeds
-        got = [deed[4] for deed in deeds if deed[0] == "get"]
-        self.numbers = [0] + sorted({number for number in [1] + got if number > 0})
-        # For each ask of the others, in order, the index of its number.
-        self.guessed = []
-        self.left = MOST_STEPS
-
-    def found_looks(self):
-        """Returns the list of the looks in the first such run that is found, or None if none is found soon."""
-        while True:
-            found = self.looks_of_run()
-            if found is not None or self.left == 0:
-                return found
-            while self.guessed and self.guessed[-1] + 1 == len(self.numbers):
-                self.guessed.pop()
-            if not self.guessed:
-                return None
-            self.guessed[-1] += 1
-
-    def looks_of_run(self):
-        """Returns the list of the looks of the end in the run with these guesses, or None if it does other deeds."""
-        memories = {other: Memory([]) for other in self.score.ends}
-        memories[self.end] = own_memory(self.deeds)
-        looks = []
-        asked = 0
-        position = 0
-        while len(looks) < len(self.deeds):
-            if position == len(self.score.statements) or self.left == 0:
-                return None
-            self.left -= 1
-            statement = self.score.statements[position]
-            if statement[0] == "ask" and statement[1] != self.end:
-                memories[statement[1]].keep(statement[2], self.guess(asked))
-                asked += 1
-                position = self.score.next[position][0]
-                continue
-            deeds = deeds_at(self.score, position, memories)
-            for deed in deeds:
-                if deed[1] == self.end:
-                    if deed != self.deeds[len(looks)]:
-                        return None
-                    looks.append(look_at(self.score, position, answer_of(deed), self.end))
-            position = goal_behind(self.score, position, deeds[0])
-        return looks
-
-    def guess(self, asked):
-        """Returns the number that is guessed behind so many others."""
-        if asked == len(self.guessed):
-            self.guessed.append(0)
-        return self.numbers[self.guessed[asked]]

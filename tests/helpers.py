@@ -589,3 +589,59 @@ def random_way(rng, score, longest):
         way.append((position, answer))
         position = score.next[position][1 if answer == "no" else 0]
     return way
+
+
+def node_number(terms, node, given):
+    """The number of a node of terms for given numbers of those that nobody knows."""
+    key, numbers = terms.nodes[node], lambda part: node_number(terms, part, given)
+    if key[0] == "unknown":
+        return given[node]
+    if key[0] == "bit":
+        return int(node_holds(terms, key[1], given))
+    if key[0] == "choice":
+        return numbers(key[2] if node_holds(terms, key[1], given) else key[3])
+    if key[0] in ("+", "-", "*"):
+        left, right = numbers(key[1]), numbers(key[2])
+        return {"+": left + right, "-": left - right, "*": left * right}[key[0]] & MOST
+    total = 0
+    for factors, many in terms.forms[node]:
+        for factor in factors:
+            many *= numbers(factor)
+        total += many
+    return total & MOST
+
+
+def node_holds(terms, condition, given):
+    """Whether a condition holds for given numbers of those that nobody knows."""
+    if condition < 0:
+        return not node_holds(terms, -condition, given)
+    key = terms.nodes[condition]
+    if key[0] == "both":
+        return node_holds(terms, key[1], given) and node_holds(terms, key[2], given)
+    if key[0] == "same":
+        return node_number(terms, key[1], given) == key[2]
+    if key[0] == "less":
+        return node_number(terms, key[1], given) < node_number(terms, key[2], given)
+    return True
+
+
+def random_terms(rng, terms, unknowns, many):
+    """A list of pairs of a node and the function that tells its number for given numbers."""
+    found = [(node, lambda given, node=node: given[node]) for node in unknowns]
+    for _ in range(many):
+        number = rng.choice([0, 1, 2, 3, 7, 1 << 31, MOST, rng.getrandbits(32)])
+        (left, first), (right, second) = rng.choice(found), rng.choice(found)
+        if rng.random() < 0.3:
+            right, second = terms.number(number), lambda given, number=number: number
+        sign = rng.choice("<=+-**+")
+        if rng.random() < 0.15:
+            condition = terms.less(left, right)
+            node = terms.choice(condition, left, right)
+            function = lambda given, first=first, second=second: min(first(given), second(given))
+        else:
+            sign = "==" if sign == "=" else sign
+            node = terms.joined(sign, left, right)
+            function = lambda given, sign=sign, first=first, second=second: plain_number(
+                (sign, ("name", "l"), ("name", "r")), {"l": first(given), "r": second(given)})
+        found.append((node, function))
+    return found
