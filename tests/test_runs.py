@@ -116,6 +116,37 @@ class Found(Checked):
             for sort in (OneByOne, AllAtOnce):
                 self.assertIsNone(sort(score, "b", deeds).found_looks(), text)
 
+    def test_runs_with_other_deeds_come_first(self):
+        for first in ("b sets l = 7", "b asks k", "b -> a: k(7) as k", "a -> b: k(7) as k", "if b: 1 { } else { }", "while b: 1 { }"):
+            score = read_score("ends a, b play { a asks n if a: n { " + first + " b sets k = 8 } else { b sets k = 7 b sets k = 8 } }")
+            for sort in (OneByOne, AllAtOnce):
+                self.assertTrue(self.check(sort, score, "b", [("set", "b", "k", 7), ("set", "b", "k", 8)]), first)
+
+    def test_decided_before(self):
+        for value in ("n", "n < 5", "5 < n", "n == 5", "n * m", "n * (m < 7)"):
+            for inner in (value, f"({value}) == 0"):
+                blocks = ["{ b sets k = 0 }", "{ b sets k = 3 + 4 }"]
+                blocks = blocks if inner == value else blocks[::-1]
+                score = read_score("ends a, b play { a asks n a asks m if a: " + value + " { if a: " + inner + " " +
+                                   " else ".join(blocks) + " } else { b sets k = 7 } }")
+                for sort in (OneByOne, AllAtOnce):
+                    self.assertEqual(sort(score, "b", [("set", "b", "k", 7)]).found_looks(), [("set", "k", ("number", 7))], inner)
+
+    def test_own_answers(self):
+        # Both answers of b lead to the same deeds, but only one of them fits what a decided.
+        head = "a asks n if a: n == 5 { a -> b: k(1) as x } else { a -> b: k(1) as y } "
+        got = ("get", "b", "a", "k", 1)
+        for answer, variable in (("yes", "x"), ("no", "y")):
+            score = read_score("ends a, b play { " + head + "if b: x { } else { } b sets k = 7 }")
+            for sort in (OneByOne, AllAtOnce):
+                looks = sort(score, "b", [got, ("if", "b", answer), ("set", "b", "k", 7)]).found_looks()
+                self.assertEqual(looks[:2], [("get", "a", "k", variable), ("if", ("name", "x"), answer)])
+            score = read_score("ends a, b play { " + head + "while b: x { b sets x = 0 } b sets k = 7 }")
+            rounds = [("while", "b", 4, "yes"), ("set", "b", "x", 0)] if answer == "yes" else []
+            for sort in (OneByOne, AllAtOnce):
+                looks = sort(score, "b", [got] + rounds + [("while", "b", 4, "no"), ("set", "b", "k", 7)]).found_looks()
+                self.assertEqual(looks[0], ("get", "a", "k", variable))
+
     def test_each_kind_of_deed(self):
         score = read_score("ends a, b play { a asks n b asks m a -> b: k(n + 1) as x b -> a: l(x * m) as y while b: 2 < x { "
                            "b sets x = x - 1 } if b: x == 2 { a -> b: up(y - 3) as z } else { a -> b: down(y - 4) as x } }")
